@@ -1,0 +1,1 @@
+"""Leastlore: a book of findings, made as thin as its readers' rights let."""
