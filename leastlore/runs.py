@@ -9,7 +9,7 @@ MOST_END = 400
 
 def is_span(begin, end, most):
     """Whether two things begin and end a stretch of the numbers below the most."""
-    return is_within(begin, 0, most - 1) and is_within(end, begin + 1, most)
+    return is_within(begin, 0, most) and is_within(end, begin + 1, most)
 
 
 def is_stretch(thing):

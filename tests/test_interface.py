@@ -13,10 +13,21 @@ FUNCTIONS = {
              "numbers_in(runs)", "has_number(runs, thing)"],
     "boxes": ["is_box(frame, thing)", "has_point(boxes, thing)", "box_with(boxes, thing)",
               "turns_at(boxes, key, day)", "days_with(boxes, key)", "how_many_points(boxes)"],
+    "boxsets": ["boxes_of(frame, boxes)", "all_boxes(frame)", "is_tidy(frame, thing)",
+                "joined_boxes(frame, one, other)", "common_boxes(frame, one, other)",
+                "less_boxes(frame, one, other)", "lies_within(frame, one, other)", "keys_with(frame, boxes)",
+                "first_point(frame, boxes)"],
+    "boxtext": ["show_boxes(boxes)", "read_boxes(frame, text)"],
+    "findings": ["is_finding(frame, thing)"],
+    "books": ["book_of(told)", "same_book(one, other)"],
+    "booktext": ["show_book(book)", "read_book(text)"],
 }
 CLASSES = {
     "frames": {"Frame": ["__init__(self, keys, days, turns)", "key_names(self)", "now(self)", "place_of(self, key)",
                          "is_point(self, thing)", "told(self)"]},
+    "books": {"Book": ["__init__(self, frame, findings)", "parts(self)", "parts_of(self, key)",
+                       "how_many_atoms(self)", "has_all(self, finding)", "read(self, point)", "speaker(self, point)",
+                       "told(self)"]},
 }
 
 
