@@ -1,8 +1,8 @@
 """Books of findings."""
 
-from leastlore.errors import Clash, NoBook, NoFinding, NoFrame, NoPoint
+from leastlore.errors import Clash, NoBook, NoFinding, NoFrame
 from leastlore.findings import is_finding
-from leastlore.frames import frame_of
+from leastlore.frames import checked_point, frame_of
 from leastlore.masks import mask_between, runs_in
 
 
@@ -17,6 +17,7 @@ class Book:
                 raise NoFinding(finding)
         self.frame = frame
         self._by_key = parts_by_key(frame, days_said(findings))
+        self._is_part = {part: True for part in self.parts()}
 
     def parts(self):
         """The findings that tell the book tidily, in order."""
@@ -27,6 +28,11 @@ class Book:
         # Of no key of the frame this refuses to tell the place.
         self.frame.place_of(key)
         return list(self._by_key[key])
+
+    def has_part(self, thing):
+        """Whether a thing is one of the parts."""
+        # What is no finding might be equal to a part all the same, or be nothing to look for in a dict.
+        return is_finding(self.frame, thing) and thing in self._is_part
 
     def how_many_atoms(self):
         """How many atoms the book has."""
@@ -45,9 +51,7 @@ class Book:
 
     def speaker(self, point):
         """The part that speaks at a point, or None."""
-        if not self.frame.is_point(point):
-            raise NoPoint(point)
-        key, day, turn = point
+        key, day, turn = checked_point(self.frame, point)
         # The parts of a key rise by known turns, and those of one turn have no common day.
         for part in reversed(self._by_key[key]):
             if part[4] <= turn and part[2] <= day < part[3]:

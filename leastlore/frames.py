@@ -1,6 +1,6 @@
 """Frames: keys in an order, days and turns."""
 
-from leastlore.errors import NoFrame, NoKey
+from leastlore.errors import NoFrame, NoKey, NoPoint
 from leastlore.words import is_name, is_within
 
 MOST_KEYS = 12
@@ -58,6 +58,13 @@ def are_keys(thing):
     if not isinstance(thing, (list, tuple)) or not 1 <= len(thing) <= MOST_KEYS:
         return False
     return all(is_name(key) for key in thing) and len(set(thing)) == len(thing)
+
+
+def checked_point(frame, thing):
+    """The thing, a point of the frame; what is none is refused."""
+    if not frame.is_point(thing):
+        raise NoPoint(thing)
+    return thing
 
 
 def frame_of(told):

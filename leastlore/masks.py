@@ -32,3 +32,13 @@ def runs_in(mask):
         end = begin + first_in(~(mask >> begin))
         runs.append((begin, end))
     return runs
+
+
+def repeated(mask, size, many):
+    """The mask so many times, at least once, each time so many figures further up than the last time."""
+    if many == 1:
+        return mask
+    # What is doubled comes to thousands of times in a few steps.
+    half = repeated(mask, size, many // 2)
+    told = half | half << size * (many // 2)
+    return told | mask << size * (many - 1) if many % 2 else told

@@ -52,3 +52,13 @@ def plain_number(thing, most):
 def own_words():
     """The words that are no names."""
     return list(OWN_WORDS)
+
+
+def is_same(thing, told):
+    """Whether a thing is equal to what is told, and of the same kinds throughout."""
+    if isinstance(thing, (list, tuple)) and isinstance(told, (list, tuple)):
+        if isinstance(thing, list) != isinstance(told, list) or len(thing) != len(told):
+            return False
+        return all(is_same(mine, theirs) for mine, theirs in zip(thing, told))
+    # To Python a truth is equal to a number.
+    return isinstance(thing, bool) == isinstance(told, bool) and thing == told

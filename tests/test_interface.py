@@ -21,13 +21,32 @@ FUNCTIONS = {
     "findings": ["is_finding(frame, thing)"],
     "books": ["book_of(told)", "same_book(one, other)"],
     "booktext": ["show_book(book)", "read_book(text)"],
+    "rules": ["rule_of(told)", "held_by_all(frame, rules)", "held_by_some(frame, rules)"],
+    "ruletext": ["read_rule(text)"],
+    "lesser": ["beyond(frame, one, other)", "is_lesser(frame, one, other)", "are_alike(frame, one, other)",
+               "idle_rows(frame, rights)", "telling_point(frame, rights, number)", "without_idle(frame, rights)"],
+    "rightstext": ["show_rights(rights)", "read_rights(text)"],
+    "stairs": ["stair_of(book, part)", "is_stair(book, part, thing)", "next_parts(book, part)",
+               "is_next(book, part, thing)", "silent_boxes(book)"],
 }
+OF_A_RULE = ["levels(self)", "points(self, frame)", "holds(self, frame, point)", "told(self)", "words(self)"]
 CLASSES = {
     "frames": {"Frame": ["__init__(self, keys, days, turns)", "key_names(self)", "now(self)", "place_of(self, key)",
                          "is_point(self, thing)", "told(self)"]},
     "books": {"Book": ["__init__(self, frame, findings)", "parts(self)", "parts_of(self, key)",
                        "how_many_atoms(self)", "has_all(self, finding)", "read(self, point)", "speaker(self, point)",
                        "told(self)"]},
+    "rules": {
+        "Rule": [], "All": OF_A_RULE, "Now": OF_A_RULE,
+        "Keyed": ["__init__(self, names)", *OF_A_RULE], "Days": ["__init__(self, begin, end)", *OF_A_RULE],
+        "Turns": ["__init__(self, begin, end)", *OF_A_RULE], "Last": ["__init__(self, many)", *OF_A_RULE],
+        "Ends": ["__init__(self, many, back)", *OF_A_RULE], "Both": ["__init__(self, one, other)", *OF_A_RULE],
+        "Either": ["__init__(self, one, other)", *OF_A_RULE], "But": ["__init__(self, one, other)", *OF_A_RULE],
+    },
+    "rights": {"Rights": ["__init__(self, rows)", "rows(self)", "with_row(self, word, told)",
+                          "without_row(self, number)", "allowed(self, frame)", "is_allowed(self, frame, point)",
+                          "place_of_no(self, frame, point)", "ask(self, book, point)", "reader(self, book)",
+                          "reasons(self, frame, point)", "are_reasons(self, frame, point, thing)"]},
 }
 
 

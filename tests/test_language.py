@@ -161,7 +161,14 @@ class Language(unittest.TestCase):
                 if isinstance(node, ast.Constant) and isinstance(node.value, str) and id(node) not in documents:
                     self.assertNotIn("%", node.value)
                     self.assertIsNone(BARRED_WORDS.search(node.value), node.value)
-                if isinstance(node, (ast.FunctionDef, ast.ClassDef, ast.Module)):
+
+    def test_documents(self):
+        for tree in TREES.values():
+            # What the methods of every kind of rule tell stands at Rule, once for all.
+            of_rules = [inner for node in tree.body if isinstance(node, ast.ClassDef)
+                        and [base.id for base in node.bases] == ["Rule"] for inner in node.body]
+            for node in ast.walk(tree):
+                if isinstance(node, (ast.FunctionDef, ast.ClassDef, ast.Module)) and node not in of_rules:
                     self.assertTrue(ast.get_docstring(node) or getattr(node, "name", "") == "__init__", node)
 
     def test_handlers_name_own_errors(self):
