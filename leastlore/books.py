@@ -98,6 +98,12 @@ def parts_by_key(frame, said):
     return {name: sorted(by_key[name], key=place_in_key) for name in by_key}
 
 
+def parts_in(frame, said):
+    """The parts that tell what is so said, in order."""
+    by_key = parts_by_key(frame, said)
+    return [part for key in by_key for part in by_key[key]]
+
+
 def place_in_key(part):
     """What the parts of one key stand in the order of."""
     return (part[4], part[2])
@@ -106,6 +112,12 @@ def place_in_key(part):
 def lies_in(finding, part):
     """Whether a part of the finding's key has all atoms of it."""
     return finding[1] == part[1] and finding[4] == part[4] and part[2] <= finding[2] and finding[3] <= part[3]
+
+
+def check_book(thing):
+    """Refuses what is no book."""
+    if not isinstance(thing, Book):
+        raise NoBook(thing)
 
 
 def book_of(told):

@@ -7,10 +7,15 @@ from leastlore.frames import MOST_DAYS, MOST_TURNS, Frame
 from leastlore.words import plain_number
 
 
+def show_said(finding):
+    """What a finding says of its key, as words."""
+    value, begin, end, known = finding[1:]
+    return f"{value} days {begin} {end} known {known}"
+
+
 def show_finding(finding):
     """A finding as a row."""
-    key, value, begin, end, known = finding
-    return f"{key} {value} days {begin} {end} known {known}"
+    return f"{finding[0]} {show_said(finding)}"
 
 
 def show_frame(frame):
@@ -37,15 +42,18 @@ def frame_on(row):
         return None
 
 
-def finding_on(frame, row):
-    """The finding of the frame that a row writes, or None."""
-    words = row.split(" ")
+def finding_by(words):
+    """What words write as a finding is written, be it one or not; None, where they aren't those of a finding."""
     if len(words) != 7 or words[2] != "days" or words[5] != "known":
         return None
     begin = plain_number(words[3], MOST_DAYS)
     end = plain_number(words[4], MOST_DAYS)
-    known = plain_number(words[6], MOST_TURNS)
-    finding = (words[0], words[1], begin, end, known)
+    return (words[0], words[1], begin, end, plain_number(words[6], MOST_TURNS))
+
+
+def finding_on(frame, row):
+    """The finding of the frame that a row writes, or None."""
+    finding = finding_by(row.split(" "))
     return finding if is_finding(frame, finding) else None
 
 

@@ -89,7 +89,7 @@ class Keyed(Rule):
         return ("key", self._names)
 
     def words(self):
-        return " ".join(("key", *self._names))
+        return " ".join(["key", *self._names])
 
 
 class Days(Rule):

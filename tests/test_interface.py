@@ -28,6 +28,13 @@ FUNCTIONS = {
     "rightstext": ["show_rights(rights)", "read_rights(text)"],
     "stairs": ["stair_of(book, part)", "is_stair(book, part, thing)", "next_parts(book, part)",
                "is_next(book, part, thing)", "silent_boxes(book)"],
+    "speaking": ["who_speaks(book, boxes)", "needed_days(book, part, boxes)", "quiet_days(book, part, boxes)",
+                 "first_turns(book, part, boxes)", "ladder(book, key, day)"],
+    "thinning": ["thin(book, boxes)", "is_thin(book, boxes, thing)"],
+    "papers": ["paper_of(book, boxes)", "is_paper(book, boxes, thing)", "book_by(frame, paper)"],
+    "papertext": ["show_paper(paper)", "read_paper(text)"],
+    "pouring": ["poured(books)", "lacking(one, other)", "is_thinner(one, other)", "shared(one, other)",
+                "without_parts(book, parts)"],
 }
 OF_A_RULE = ["levels(self)", "points(self, frame)", "holds(self, frame, point)", "told(self)", "words(self)"]
 CLASSES = {

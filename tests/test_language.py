@@ -140,6 +140,8 @@ class Language(unittest.TestCase):
                         self.assertIn(node.id, LET_BUILTINS)
                 if isinstance(node, ast.Call) and isinstance(node.func, ast.Attribute):
                     self.assertIn(node.func.attr, LET_METHODS | own)
+                if isinstance(node, ast.Starred):
+                    self.assertIsInstance(node.value, (ast.Name, ast.Attribute))
                 if isinstance(node, ast.Attribute):
                     self.assertFalse(node.attr.startswith("__"))
                     self.assertNotIn(node.attr, BARRED)
