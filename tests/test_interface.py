@@ -35,6 +35,12 @@ FUNCTIONS = {
     "papertext": ["show_paper(paper)", "read_paper(text)"],
     "pouring": ["poured(books)", "lacking(one, other)", "is_thinner(one, other)", "shared(one, other)",
                 "without_parts(book, parts)"],
+    "sources": ["sources(books)", "are_sources(books, thing)"],
+    "lessening": ["poured_thin(books, boxes)", "lessened(book, one, other)", "lost_by(book, one, other)"],
+    "checks": ["check_of(numbers)"],
+    "pages": ["is_page(thing)", "blank_page()", "page_of(frame, finding)", "part_on(frame, thing)",
+              "root_page(count, used)", "root_on(thing, many)"],
+    "disks": ["disk_of(pages)"],
 }
 OF_A_RULE = ["levels(self)", "points(self, frame)", "holds(self, frame, point)", "told(self)", "words(self)"]
 CLASSES = {
@@ -54,6 +60,9 @@ CLASSES = {
                           "without_row(self, number)", "allowed(self, frame)", "is_allowed(self, frame, point)",
                           "place_of_no(self, frame, point)", "ask(self, book, point)", "reader(self, book)",
                           "reasons(self, frame, point)", "are_reasons(self, frame, point, thing)"]},
+    "disks": {"Power": ["__init__(self, many=None)", "left_over(self)", "written(self)"],
+              "Disk": ["__init__(self, many)", "how_many(self)", "pages(self)", "page_at(self, number)",
+                       "write(self, number, numbers, power=None)"]},
 }
 
 
