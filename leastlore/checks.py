@@ -3,7 +3,6 @@
 from leastlore.errors import NoNumber
 from leastlore.words import is_within
 
-# The greatest number of those that are checked, and the one behind it.
 MOST_NUMBER = 4294967295
 BEYOND = 4294967296
 

@@ -1,5 +1,7 @@
 """What the tests of pages, disks and stores need: pages laid number by number, and things that are none."""
 
+import functools
+
 from leastlore.errors import NoKey
 from leastlore.frames import Frame
 from tests.test_checks import check_by_hand
@@ -10,9 +12,15 @@ MOST = 2 ** 32 - 1
 SIGNS = "abcdefghijklmnopqrstuvwxyz0123456789"
 
 
+@functools.lru_cache(None)
+def check_once(numbers):
+    """The check by hand, which takes its time, reckoned once for each row of numbers."""
+    return check_by_hand(numbers)
+
+
 def with_check(numbers):
     """The page of nineteen numbers, with their check behind them."""
-    return (*numbers, check_by_hand(numbers))
+    return (*numbers, check_once(tuple(numbers)))
 
 
 def page_by_hand(frame, finding):
@@ -38,7 +46,7 @@ def root_by_hand(count, used):
 def finding_by_hand(frame, page):
     """The finding whose page this is, by reading it place by place; None, where there is none."""
     keys = frame.key_names()
-    if page[1] != 2 or page[0] >= len(keys) or any(page[8:19]) or page[19] != check_by_hand(page[:19]):
+    if page[1] != 2 or page[0] >= len(keys) or any(page[8:19]) or page[19] != check_once(page[:19]):
         return None
     if not 0 <= page[2] < page[3] <= frame.days or not 0 <= page[4] < frame.turns:
         return None

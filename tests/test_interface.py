@@ -41,6 +41,13 @@ FUNCTIONS = {
     "pages": ["is_page(thing)", "blank_page()", "page_of(frame, finding)", "part_on(frame, thing)",
               "root_page(count, used)", "root_on(thing, many)"],
     "disks": ["disk_of(pages)"],
+    "stores": ["store_at(frame, pages)"],
+    "sending": ["check_for(frame, key, findings)", "key_checks(book)", "keys_unlike(book, checks)",
+                "is_row(frame, thing)", "rows_for(book, told, boxes=None)", "put_in(book, rows)"],
+    "sendtext": ["show_rows(rows)", "read_rows(frame, text)"],
+    "forgetting": ["forgotten(book, key)", "forgotten_days(book, key, stretch)", "forget_in(store, key, power=None)",
+                   "pages_with(frame, pages, key)"],
+    "desklines": ["read_line(line)"],
 }
 OF_A_RULE = ["levels(self)", "points(self, frame)", "holds(self, frame, point)", "told(self)", "words(self)"]
 CLASSES = {
@@ -63,6 +70,10 @@ CLASSES = {
     "disks": {"Power": ["__init__(self, many=None)", "left_over(self)", "written(self)"],
               "Disk": ["__init__(self, many)", "how_many(self)", "pages(self)", "page_at(self, number)",
                        "write(self, number, numbers, power=None)"]},
+    "stores": {"Store": ["__init__(self, frame, many)", "is_dark(self)", "pages(self)", "open_again(self, power=None)",
+                         "book_now(self)", "count_now(self)", "used_pages(self)", "save(self, book, power=None)",
+                         "cost_of(self, book)", "pages_for(self, book)"]},
+    "desk": {"Desk": ["__init__(self)", "say(self, line)"]},
 }
 
 
