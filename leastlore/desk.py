@@ -179,7 +179,8 @@ class Desk:
 
     def do_save(self, many=None):
         """Saves the book, by power for so many numbers."""
-        return [f"count {self.stored().save(self._book, Power(many))}"]
+        count = self.stored().save(self._book, Power(many))
+        return [f"count {count}"]
 
     def do_open(self, many=None):
         """Makes the book that is found in the store, opened again, the desk's own."""
@@ -187,7 +188,8 @@ class Desk:
 
     def do_purge(self, key, many=None):
         """Forgets a key in the store."""
-        return [f"count {forget_in(self.stored(), key, Power(many))}"]
+        count = forget_in(self.stored(), key, Power(many))
+        return [f"count {count}"]
 
     def do_bears(self, key):
         """Tells which pages of the store bear a part of a key."""

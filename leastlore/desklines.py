@@ -36,8 +36,8 @@ def told_by(line):
             things = things_by(FORM_OF_FINDING, words)
             return None if things is None else ("find", tuple(things))
     found = [things_by(form, words) for form in FORMS]
-    told = [things for things in found if things is not None]
-    return tuple(words[:1] + told[0]) if told else None
+    fitting = [said for said in found if said is not None]
+    return tuple(words[:1] + fitting[0]) if fitting else None
 
 
 def things_by(form, words):
